@@ -1,0 +1,1 @@
+"""Holdlane: stages that hand values on by lanes with little room."""
