@@ -1,0 +1,184 @@
+"""Nets drawn by a seeded source, and what they ought to do, reckoned apart from the package."""
+
+import itertools
+import random
+
+from holdlane.errors import Loose
+from holdlane.nets import Net
+
+VALUES = 10 ** 9
+COUNTS = {
+    "give": (0, 0, 1), "take": (0, 1, 0), "pass": (0, 1, 1), "copy": (0, 1, 2), "turn": (2, 1, 1), "heap": (1, 1, 1),
+    "add": (0, 2, 1), "less": (0, 2, 1), "order": (0, 2, 2), "choose": (0, 3, 1), "split": (0, 2, 2),
+}
+STAGES = [kind for kind in COUNTS if kind not in ("give", "take")]
+
+
+def drawn_value(source):
+    return source.choice([source.randrange(10), source.randrange(10), VALUES - 1 - source.randrange(3)])
+
+
+def drawn_kinds(source):
+    while True:
+        kinds = [source.choice(STAGES) for count in range(source.randrange(1, 9))]
+        more = sum(COUNTS[kind][1] - COUNTS[kind][2] for kind in kinds)
+        doors = source.randrange(3)
+        kinds += ["give"] * (doors + max(0, more)) + ["take"] * (doors + max(0, -more))
+        lanes = sum(COUNTS[kind][1] for kind in kinds)
+        if len(kinds) <= 16 and 1 <= lanes <= 24:
+            source.shuffle(kinds)
+            return kinds
+
+
+def drawn_forms(source):
+    """Lanes and parts that fit together, but may fall apart into several nets."""
+    kinds = drawn_kinds(source)
+    lanes = ["l%d" % place for place in range(sum(COUNTS[kind][1] for kind in kinds))]
+    ins, outs = list(lanes), list(lanes)
+    source.shuffle(ins)
+    source.shuffle(outs)
+    parts = []
+    for place, kind in enumerate(kinds):
+        many = COUNTS[kind]
+        numbers = [drawn_value(source) for count in range(many[0])]
+        parts.append((kind, "p%d" % place, numbers, ins[:many[1]], outs[:many[2]]))
+        ins, outs = ins[many[1]:], outs[many[2]:]
+    return [drawn_lane(source, name) for name in lanes], parts
+
+
+def drawn_lane(source, name):
+    room = source.choice([1, 1, 2, 2, 3, 4, 199])
+    many = source.choice([0, 0, 1, 1, 2, room])
+    return (name, room, [drawn_value(source) for count in range(min(room, many))])
+
+
+def drawn_net(source):
+    while True:
+        lanes, parts = drawn_forms(source)
+        try:
+            return Net(lanes, parts)
+        except Loose:
+            continue
+
+
+def drawn_rows(source, net, most=20):
+    rows = {}
+    for door in net.gives():
+        if source.randrange(8):
+            rows[door] = [drawn_value(source) for count in range(source.randrange(most + 1))]
+    return rows
+
+
+def drawn_nets(seed, many):
+    for number in range(many):
+        source = random.Random(seed * 100000 + number)
+        net = drawn_net(source)
+        yield source, net, drawn_rows(source, net)
+
+
+def drawn_held(source, net):
+    doors = net.gives() + net.takes()
+    return [door for door in doors if source.randrange(3) == 0]
+
+
+def streams_given(kind, numbers, ins, row, most):
+    """What a part gives to each of its lanes, told of the whole rows of its lanes in."""
+    if kind == "give":
+        return [row[:most]]
+    if kind == "take":
+        return []
+    if kind == "pass":
+        return [ins[0][:most]]
+    if kind == "copy":
+        return [ins[0][:most], ins[0][:most]]
+    if kind == "turn":
+        return [[(numbers[0] * value + numbers[1]) % VALUES for value in ins[0][:most]]]
+    if kind == "heap":
+        return [[total % VALUES for total in itertools.accumulate(ins[0][:most], initial=numbers[0])][1:]]
+    if kind == "choose":
+        return [stream_chosen(ins, most)]
+    pairs = list(zip(ins[0], ins[1]))[:most]
+    if kind == "add":
+        return [[(one + other) % VALUES for one, other in pairs]]
+    if kind == "less":
+        return [[int(one < other) for one, other in pairs]]
+    if kind == "order":
+        return [[sorted(pair)[0] for pair in pairs], [sorted(pair)[1] for pair in pairs]]
+    return [[value for c, value in pairs if c % 2 == side] for side in (0, 1)]
+
+
+def stream_chosen(ins, most):
+    sides = [list(ins[1]), list(ins[2])]
+    chosen = []
+    for c in ins[0][:most]:
+        if not sides[c % 2]:
+            break
+        chosen.append(sides[c % 2].pop(0))
+    return chosen
+
+
+def streams(told, rows, most):
+    """The rows of the plain net, as the least rows that all parts agree with."""
+    first = {name: list(values) for name, room, values in told[0]}
+    lanes = dict(first)
+    while True:
+        then = dict(lanes)
+        for kind, name, numbers, ins, outs in told[1]:
+            given = streams_given(kind, numbers, [lanes[lane] for lane in ins], rows.get(name, []), most)
+            for lane, values in zip(outs, given):
+                then[lane] = first[lane] + values
+        if then == lanes:
+            return lanes
+        lanes = then
+
+
+class Model:
+    """A run by the plainest means: every turn builds all lanes anew from those ahead of it."""
+
+    def __init__(self, told, rows):
+        self.rooms = {name: room for name, room, values in told[0]}
+        self.lanes = {name: list(values) for name, room, values in told[0]}
+        self.parts = told[1]
+        self.rows = {part[1]: list(rows.get(part[1], [])) for part in told[1] if part[0] == "give"}
+        self.memory = {part[1]: part[2][0] for part in told[1] if part[0] == "heap"}
+
+    def lanes_taken(self, kind, ins):
+        if kind == "choose" and self.lanes[ins[0]]:
+            return [ins[0], ins[1 + self.lanes[ins[0]][0] % 2]]
+        return list(ins)
+
+    def given(self, part, values):
+        kind, name, numbers = part[:3]
+        if kind == "choose":
+            return {0: values[1]}
+        if kind == "split":
+            return {values[0] % 2: values[1]}
+        heap = [self.memory.get(name)] if kind == "heap" else numbers
+        row = self.rows.get(name, [])
+        return {place: stream[0] for place, stream in enumerate(streams_given(kind, heap, [[v] for v in values], row, 1))}
+
+    def deed(self, part):
+        kind, name, numbers, ins, outs = part
+        lanes = self.lanes_taken(kind, ins)
+        if not all(self.lanes[lane] for lane in lanes) or self.rows.get(name) == []:
+            return None
+        given = {outs[place]: value for place, value in self.given(part, [self.lanes[lane][0] for lane in lanes]).items()}
+        if any(len(self.lanes[lane]) >= self.rooms[lane] for lane in given):
+            return None
+        return lanes, given
+
+    def able(self):
+        return [part[1] for part in self.parts if self.deed(part)]
+
+    def step(self, held):
+        deeds = [(part, self.deed(part)) for part in self.parts if part[1] not in held and self.deed(part)]
+        for part, (lanes, given) in deeds:
+            for lane in lanes:
+                self.lanes[lane] = self.lanes[lane][1:]
+            for lane, value in given.items():
+                self.lanes[lane] = self.lanes[lane] + [value]
+                if part[0] == "heap":
+                    self.memory[part[1]] = value
+            if part[0] == "give":
+                self.rows[part[1]] = self.rows[part[1]][1:]
+        return [part[1] for part, deed in deeds]
