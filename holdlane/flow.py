@@ -34,16 +34,24 @@ class Flow:
     def head(self, lane):
         return self.ever[lane][self.gone[lane]] if self.holds(lane) > 0 else None
 
+    def heads(self, part):
+        return [self.head(lane) for lane in part.ins]
+
+    def lacking(self, name):
+        part = self.net.part_of(name)
+        place = part.lacks(self.heads(part))
+        return None if place is None else part.ins[place]
+
     def row_ended(self, name):
         return name in self.rows and self.done[name] == len(self.rows[name])
 
     # A deed is told apart from its doing, so that a turn can ask every part by one and the same state: the lanes to
     # take from, tuples (lane, value) to give, and what is remembered then; None where a value is lacking.
     def deed(self, name):
-        part = self.net.part_of(name)
-        heads = [self.head(lane) for lane in part.ins]
-        if part.lacks(heads) is not None or self.row_ended(name):
+        if self.lacking(name) is not None or self.row_ended(name):
             return None
+        part = self.net.part_of(name)
+        heads = self.heads(part)
         places = part.taking(heads)
         values = [heads[place] for place in places]
         if name in self.rows:

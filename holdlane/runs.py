@@ -32,12 +32,13 @@ class Run:
 
     def next_deed(self, name):
         deed = self.flow.deed(name)
-        if deed is None or any([self.is_full(lane) for lane, value in deed[1]]):
-            return None
-        return deed
+        return None if deed is None or self.full_lane(deed) is not None else deed
 
-    def is_full(self, lane):
-        return self.flow.holds(lane) >= self.net.room_of(lane)
+    def full_lane(self, deed):
+        for lane, value in deed[1]:
+            if self.flow.holds(lane) >= self.net.room_of(lane):
+                return lane
+        return None
 
     def can_work(self, name):
         return self.next_deed(name) is not None

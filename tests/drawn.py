@@ -12,15 +12,16 @@ COUNTS = {
     "add": (0, 2, 1), "less": (0, 2, 1), "order": (0, 2, 2), "choose": (0, 3, 1), "split": (0, 2, 2),
 }
 STAGES = [kind for kind in COUNTS if kind not in ("give", "take")]
+CALM = [kind for kind in STAGES if kind not in ("choose", "split")]
 
 
 def drawn_value(source):
     return source.choice([source.randrange(10), source.randrange(10), VALUES - 1 - source.randrange(3)])
 
 
-def drawn_kinds(source):
+def drawn_kinds(source, stages):
     while True:
-        kinds = [source.choice(STAGES) for count in range(source.randrange(1, 9))]
+        kinds = [source.choice(stages) for count in range(source.randrange(1, 9))]
         more = sum(COUNTS[kind][1] - COUNTS[kind][2] for kind in kinds)
         doors = source.randrange(3)
         kinds += ["give"] * (doors + max(0, more)) + ["take"] * (doors + max(0, -more))
@@ -30,9 +31,9 @@ def drawn_kinds(source):
             return kinds
 
 
-def drawn_forms(source):
+def drawn_forms(source, stages):
     """Lanes and parts that fit together, but may fall apart into several nets."""
-    kinds = drawn_kinds(source)
+    kinds = drawn_kinds(source, stages)
     lanes = ["l%d" % place for place in range(sum(COUNTS[kind][1] for kind in kinds))]
     ins, outs = list(lanes), list(lanes)
     source.shuffle(ins)
@@ -52,9 +53,9 @@ def drawn_lane(source, name):
     return (name, room, [drawn_value(source) for count in range(min(room, many))])
 
 
-def drawn_net(source):
+def drawn_net(source, stages=STAGES):
     while True:
-        lanes, parts = drawn_forms(source)
+        lanes, parts = drawn_forms(source, stages)
         try:
             return Net(lanes, parts)
         except Loose:
@@ -69,16 +70,28 @@ def drawn_rows(source, net, most=20):
     return rows
 
 
-def drawn_nets(seed, many):
+def long_rows(source, net, many):
+    return {door: [drawn_value(source) for count in range(many)] for door in net.gives()}
+
+
+def drawn_nets(seed, many, stages=STAGES):
     for number in range(many):
         source = random.Random(seed * 100000 + number)
-        net = drawn_net(source)
+        net = drawn_net(source, stages)
         yield source, net, drawn_rows(source, net)
 
 
 def drawn_held(source, net):
     doors = net.gives() + net.takes()
     return [door for door in doors if source.randrange(3) == 0]
+
+
+def run_state(run, net):
+    """All that a run tells of itself."""
+    lanes = [(run.lane_now(lane), run.had(lane)) for lane in net.lane_names()]
+    parts = [(run.works(name), run.can_work(name)) for name in net.part_names()]
+    taken = [run.taken(door) for door in net.takes()]
+    return lanes, parts, taken, run.turn(), run.net_now().told(), run.rows_left()
 
 
 def streams_given(kind, numbers, ins, row, most):
@@ -132,6 +145,18 @@ def streams(told, rows, most):
         lanes = then
 
 
+def arcs_by_told(told):
+    """The arcs of a calm net, told of its lanes and parts."""
+    lanes, parts = told
+    givers = {lane: part[1] for part in parts for lane in part[4]}
+    takers = {lane: part[1] for part in parts for lane in part[3]}
+    arcs = []
+    for name, room, first in lanes:
+        arcs += [(givers[name], takers[name], len(first), name, "along")]
+        arcs += [(takers[name], givers[name], room - len(first), name, "against")]
+    return arcs + [(part[1], part[1], 1, "", "again") for part in parts]
+
+
 class Model:
     """A run by the plainest means: every turn builds all lanes anew from those ahead of it."""
 
@@ -166,6 +191,21 @@ class Model:
         if any(len(self.lanes[lane]) >= self.rooms[lane] for lane in given):
             return None
         return lanes, given
+
+    def wait(self, part):
+        kind, name, numbers, ins, outs = part
+        lanes = self.lanes_taken(kind, ins)
+        for lane in lanes:
+            if not self.lanes[lane]:
+                return (name, lane, "value")
+        if self.rows.get(name) == []:
+            return (name, "", "end")
+        given = self.given(part, [self.lanes[lane][0] for lane in lanes])
+        full = [lane for place, lane in enumerate(outs) if place in given and len(self.lanes[lane]) == self.rooms[lane]]
+        return (name, full[0], "room") if full else None
+
+    def waits(self):
+        return [self.wait(part) for part in self.parts if self.wait(part)]
 
     def able(self):
         return [part[1] for part in self.parts if self.deed(part)]

@@ -3,7 +3,7 @@
 import copy
 import unittest
 
-from drawn import Model, drawn_held, drawn_nets, drawn_rows
+from drawn import Model, drawn_held, drawn_nets, drawn_rows, run_state
 from holdlane.errors import BadRow, LaneError, NoSuch
 from holdlane.nets import Net
 from holdlane.nettext import read_net, show_net
@@ -21,14 +21,6 @@ SPLIT = "lane a 9\nlane b 9\nlane c 1\nlane x 1\ngive g : > a\ngive h : > b\nspl
 
 def made(text, rows):
     return Run(read_net(text), rows)
-
-
-def state(run, net):
-    """All that a run tells of itself."""
-    lanes = [(run.lane_now(lane), run.had(lane)) for lane in net.lane_names()]
-    parts = [(run.works(name), run.can_work(name)) for name in net.part_names()]
-    taken = [run.taken(door) for door in net.takes()]
-    return lanes, parts, taken, run.turn(), run.net_now().told(), run.rows_left()
 
 
 class Beginnings(unittest.TestCase):
@@ -240,7 +232,7 @@ class Telling(unittest.TestCase):
         for source, net, rows in drawn_nets(54, 20):
             run, other = Run(net, rows), Run(net, rows)
             for turn in range(10):
-                self.assertEqual(state(run, net), state(run, net))
+                self.assertEqual(run_state(run, net), run_state(run, net))
                 held = drawn_held(source, net)
                 self.assertEqual(run.step(held), other.step(held))
 
@@ -272,13 +264,13 @@ class Telling(unittest.TestCase):
         net = read_net(LINE)
         run = Run(net, {"d": [7, 8, 9]})
         for turn in range(5):
-            before = copy.deepcopy(state(run, net))
+            before = copy.deepcopy(run_state(run, net))
             for ask in (lambda: run.taken("e"), lambda: run.lane_now("a"), lambda: run.had("a"), lambda: run.had("b"),
                         lambda: run.rows_left()["d"], lambda: run.net_now().first_of("a"), lambda: run.net_now().told()[0]):
                 ask().append(99)
                 ask().clear()
             run.rows_left().clear()
-            self.assertEqual(state(run, net), before)
+            self.assertEqual(run_state(run, net), before)
             run.step().append("z")
         self.assertEqual(run.had("a"), [5, 0, 7, 8])
 
@@ -286,10 +278,10 @@ class Telling(unittest.TestCase):
         net = read_net(LINE)
         rows = {"d": [7, 8, 9]}
         one, other = Run(net, rows), Run(net, rows)
-        before = state(other, net)
+        before = run_state(other, net)
         for turn in range(5):
             one.step()
-        self.assertEqual(state(other, net), before)
+        self.assertEqual(run_state(other, net), before)
         self.assertEqual(net.told(), read_net(LINE).told())
 
 
@@ -320,12 +312,12 @@ class Refusals(unittest.TestCase):
         net = read_net(LINE)
         run = Run(net, {"d": [7, 8]})
         for turn in range(4):
-            before = state(run, net)
+            before = run_state(run, net)
             for held, name in ((["t"], "t"), (["a"], "a"), (["z"], "z"), ([""], ""), (["d", "t", "z"], "t"),
                                (["d", "z", "t"], "z"), (["e", "d", "e", "D"], "D"), (["t", "d"], "t"), ([None], None)):
                 with self.subTest(held):
                     self.refused(lambda: run.step(held), name)
-                    self.assertEqual(state(run, net), before)
+                    self.assertEqual(run_state(run, net), before)
             run.step()
 
 
@@ -398,12 +390,12 @@ class AmidARun(unittest.TestCase):
             run = Run(net, rows)
             for turn in range(source.randrange(12)):
                 run.step(drawn_held(source, net))
-            before = state(run, net)
+            before = run_state(run, net)
             other = Run(run.net_now(), run.rows_left())
             third = Run(read_net(show_net(run.net_now())), run.rows_left())
             self.assertEqual(other.turn(), 0)
             works = {name: run.works(name) for name in net.part_names()}
-            self.assertEqual(state(run, net), before)
+            self.assertEqual(run_state(run, net), before)
             for turn in range(12):
                 held = drawn_held(source, net)
                 worked = run.step(held)
@@ -422,15 +414,15 @@ class AmidARun(unittest.TestCase):
         run = Run(net, {"d": [7, 8]})
         run.step()
         told, left = run.net_now(), run.rows_left()
-        before = state(run, net)
+        before = run_state(run, net)
         other = Run(told, left)
         for turn in range(5):
             other.step()
-        self.assertEqual(state(run, net), before)
-        before = state(other, told)
+        self.assertEqual(run_state(run, net), before)
+        before = run_state(other, told)
         run.step()
         left["d"].clear()
-        self.assertEqual(state(other, told), before)
+        self.assertEqual(run_state(other, told), before)
 
 
 class TwoRuns(unittest.TestCase):
