@@ -25,7 +25,7 @@ def lane_read(words, line):
     if len(words) < 3:
         raise BadLine(line)
     need_names(words[1:2], line)
-    numbers = numbers_read(words[2:], line)
+    numbers = numbers_read(words[2:], 0, GREATEST, line)
     return (words[1], numbers[0], numbers[1:])
 
 
@@ -36,7 +36,7 @@ def part_read(words, line):
     arrow = words.index(">")
     # A sign that stands too far ahead lies among the names or numbers and is refused there, since it is neither.
     need_names(words[:2], line)
-    numbers = numbers_read(words[2:colon], line)
+    numbers = numbers_read(words[2:colon], 0, GREATEST, line)
     need_names(words[colon + 1:arrow], line)
     need_names(words[arrow + 1:], line)
     return (words[0], words[1], numbers, words[colon + 1:arrow], words[arrow + 1:])
@@ -47,13 +47,13 @@ def need_names(words, line):
         raise BadLine(line)
 
 
-def numbers_read(words, line):
-    return [number_read(word, line) for word in words]
+def numbers_read(words, low, high, line):
+    return [number_read(word, low, high, line) for word in words]
 
 
-def number_read(word, line):
+def number_read(word, low, high, line):
     try:
-        return number_in(word, 0, GREATEST)
+        return number_in(word, low, high)
     except BadWord:
         raise BadLine(line) from None
 

@@ -1,7 +1,7 @@
 """Ranks that show that no ring of arcs is without tokens, or such a ring."""
 
 from holdlane.arcs import arcs_of
-from holdlane.ways import gone_round
+from holdlane.ways import ring_into
 
 
 def ranks_or_ring(net):
@@ -23,12 +23,10 @@ def ranks_by(names, bare):
     return ranks
 
 
-# Gone against the arcs, since each of these parts is sure to have an arc to it, but perhaps none away from it.
+# Each of these parts is sure to have an arc to it from one of them, so the way against the arcs never ends.
 def ring_among(names, bare):
     into = {}
-    leads = {}
     for arc in bare:
         if arc[0] in names:
             into[arc[1]] = arc
-            leads[arc[1]] = arc[0]
-    return [into[name] for name in reversed(gone_round(names[0], leads))]
+    return ring_into(names[0], into)

@@ -2,6 +2,7 @@
 
 import itertools
 import random
+from fractions import Fraction
 
 from holdlane.errors import Loose
 from holdlane.nets import Net
@@ -19,9 +20,9 @@ def drawn_value(source):
     return source.choice([source.randrange(10), source.randrange(10), VALUES - 1 - source.randrange(3)])
 
 
-def drawn_kinds(source, stages):
+def drawn_kinds(source, stages, least=1, most=8):
     while True:
-        kinds = [source.choice(stages) for count in range(source.randrange(1, 9))]
+        kinds = [source.choice(stages) for count in range(source.randrange(least, most + 1))]
         more = sum(COUNTS[kind][1] - COUNTS[kind][2] for kind in kinds)
         doors = source.randrange(3)
         kinds += ["give"] * (doors + max(0, more)) + ["take"] * (doors + max(0, -more))
@@ -31,9 +32,8 @@ def drawn_kinds(source, stages):
             return kinds
 
 
-def drawn_forms(source, stages):
+def drawn_forms(source, kinds):
     """Lanes and parts that fit together, but may fall apart into several nets."""
-    kinds = drawn_kinds(source, stages)
     lanes = ["l%d" % place for place in range(sum(COUNTS[kind][1] for kind in kinds))]
     ins, outs = list(lanes), list(lanes)
     source.shuffle(ins)
@@ -53,13 +53,85 @@ def drawn_lane(source, name):
     return (name, room, [drawn_value(source) for count in range(min(room, many))])
 
 
-def drawn_net(source, stages=STAGES):
+def drawn_net(source, stages=STAGES, least=1, most=8):
     while True:
-        lanes, parts = drawn_forms(source, stages)
+        lanes, parts = drawn_forms(source, drawn_kinds(source, stages, least, most))
         try:
             return Net(lanes, parts)
         except Loose:
             continue
+
+
+def drawn_wide(source):
+    """A calm net of sixteen parts."""
+    while True:
+        net = drawn_net(source, CALM, 10, 16)
+        if len(net.part_names()) == 16:
+            return net
+
+
+def shuffled_net(source, lanes, parts):
+    source.shuffle(lanes)
+    source.shuffle(parts)
+    return Net(lanes, parts)
+
+
+def circle_parts(many):
+    return [("pass", f"p{place}", [], [f"l{place}"], [f"l{(place + 1) % many}"]) for place in range(many)]
+
+
+def drawn_loop(source):
+    """Stages in a circle."""
+    many = source.randrange(1, 17)
+    return shuffled_net(source, [drawn_lane(source, f"l{place}") for place in range(many)], circle_parts(many))
+
+
+def drawn_circle(source):
+    """Stages in a circle whose lanes are all empty or all full, but for one of them perhaps."""
+    many, full = source.randrange(1, 17), source.randrange(2)
+    other = source.randrange(2 * many)
+    lanes = []
+    for place in range(many):
+        room = source.randrange(1, 4)
+        count = source.randrange(room + 1) if place == other else room * full
+        lanes.append((f"l{place}", room, [1] * count))
+    return shuffled_net(source, lanes, circle_parts(many))
+
+
+def drawn_line(source, many=16):
+    """A row of parts, each lane full or empty: the ranks may have to go up to the last."""
+    lanes = [(f"l{place}", 1, [1] * source.randrange(2)) for place in range(many - 1)]
+    parts = [("pass", f"p{place}", [], [f"l{place - 1}"], [f"l{place}"]) for place in range(1, many - 1)]
+    parts += [("give", "p0", [], [], ["l0"]), ("take", f"p{many - 1}", [], [f"l{many - 2}"], [])]
+    return shuffled_net(source, lanes, parts)
+
+
+def drawn_meeting(source):
+    """A copy whose two ways, of any lengths, meet again in an add."""
+    one, other = source.randrange(0, 4), source.randrange(0, 9)
+    ways = [[f"a{place}" for place in range(one + 1)], [f"b{place}" for place in range(other + 1)]]
+    parts = [("give", "g", [], [], ["i"]), ("copy", "k", [], ["i"], [ways[0][0], ways[1][0]])]
+    for way in ways:
+        parts += [("pass", f"p{lane}", [], [lane], [then]) for lane, then in zip(way, way[1:])]
+    parts += [("add", "s", [], [ways[0][-1], ways[1][-1]], ["o"]), ("take", "t", [], ["o"], [])]
+    lanes = [drawn_lane(source, name) for name in ["i", "o"]]
+    lanes += [(name, source.choice([1, 1, 2, 3]), []) for name in ways[0] + ways[1]]
+    return shuffled_net(source, lanes, parts)
+
+
+def roomier(source, net):
+    lanes, parts = net.told()
+    return Net([(name, min(199, room + source.randrange(1, 3)), first) for name, room, first in lanes], parts)
+
+
+def drawn_calm(seed, many):
+    """Calm nets of every sort, with their sources; every second one has few lanes of room 1."""
+    draws = (lambda source: drawn_net(source, CALM), drawn_wide, drawn_loop, drawn_circle, drawn_meeting, drawn_line)
+    for number in range(many):
+        source = random.Random(seed * 100000 + number)
+        for draw in draws:
+            net = draw(source)
+            yield source, net if source.randrange(2) else roomier(source, net)
 
 
 def drawn_rows(source, net, most=20):
@@ -155,6 +227,45 @@ def arcs_by_told(told):
         arcs += [(givers[name], takers[name], len(first), name, "along")]
         arcs += [(takers[name], givers[name], room - len(first), name, "against")]
     return arcs + [(part[1], part[1], 1, "", "again") for part in parts]
+
+
+def is_ring(ring, arcs):
+    """Whether it is a list of some of these arcs, each of which begins where the one ahead of it ends."""
+    if type(ring) is not list or not ring or not all(type(arc) is tuple and arc in arcs for arc in ring):
+        return False
+    return all(arc[0] == ring[place - 1][1] for place, arc in enumerate(ring))
+
+
+def ring_share(ring):
+    return Fraction(sum(arc[2] for arc in ring), len(ring))
+
+
+def least_mean(arcs):
+    """The least tokens through arcs of all rings, by the least tokens on ways of each number of arcs."""
+    names = sorted({arc[0] for arc in arcs})
+    ways = [{names[0]: 0}]
+    for count in names:
+        then = {}
+        for start, end, tokens, lane, way in arcs:
+            if start in ways[-1]:
+                then[end] = min(then.get(end, 10 ** 9), ways[-1][start] + tokens)
+        ways.append(then)
+    many, last = len(names), ways[-1]
+    return min(max(Fraction(last[name] - ways[count][name], many - count) for count in range(many) if name in ways[count])
+               for name in last)
+
+
+def tokens_between(arcs):
+    """The least tokens on ways from each part to each part."""
+    names = sorted({arc[0] for arc in arcs})
+    least = {(one, other): 0 if one == other else 10 ** 9 for one in names for other in names}
+    for start, end, tokens, lane, way in arcs:
+        least[start, end] = min(least[start, end], tokens)
+    for middle in names:
+        for one in names:
+            for other in names:
+                least[one, other] = min(least[one, other], least[one, middle] + least[middle, other])
+    return least
 
 
 class Model:

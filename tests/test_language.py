@@ -25,6 +25,8 @@ NODES = (
     ast.ListComp, ast.comprehension, ast.JoinedStr, ast.FormattedValue, ast.Lambda,
     ast.expr_context, ast.operator, ast.unaryop, ast.boolop, ast.cmpop,
 )
+WALKED = ["zip", "enumerate", "reversed", "range", "items", "keys", "values"]
+WALKERS = ["list", "tuple", "dict", "sorted", "sum", "any", "all", "enumerate", "zip", "min", "max"]
 PYTHONS_OWN = [str, int, list, dict, tuple, set, bytes]
 
 
@@ -180,6 +182,31 @@ class Language(unittest.TestCase):
                 self.check(path, node, not isinstance(node.value, str) or "%" not in node.value, "L27")
             if isinstance(node, ast.ListComp):
                 self.check(path, node, len(node.generators) == 1 and len(node.generators[0].ifs) <= 1, "L7")
+
+    def test_no_local_is_called_like_an_import_or_a_class(self):
+        for path, tree in trees():
+            tops = [name.name for node in tree.body if isinstance(node, ast.ImportFrom) for name in node.names]
+            tops += [node.name for node in tree.body if isinstance(node, ast.ClassDef)]
+            for node in ast.walk(tree):
+                if isinstance(node, ast.arg) or isinstance(node, ast.Name) and isinstance(node.ctx, ast.Store):
+                    self.check(path, node, getattr(node, "arg", getattr(node, "id", None)) not in tops, "L15")
+
+    def test_what_is_walked_at_once(self):
+        for path, tree in trees():
+            fine = set()
+            for node in ast.walk(tree):
+                if isinstance(node, (ast.For, ast.comprehension)):
+                    fine.add(node.iter)
+                if isinstance(node, ast.Call) and isinstance(node.func, ast.Name) and node.func.id in WALKERS:
+                    fine.update(node.args)
+            for node in ast.walk(tree):
+                name = getattr(getattr(node, "func", None), "id", getattr(getattr(node, "func", None), "attr", None))
+                if isinstance(node, ast.Call) and name in WALKED:
+                    self.check(path, node, node in fine, f"L23 {name}")
+
+    def test_f_strings(self):
+        for path, node in nodes(ast.FormattedValue):
+            self.check(path, node, isinstance(node.value, ast.Name) and node.format_spec is None, "L7")
 
 
 if __name__ == "__main__":

@@ -3,7 +3,7 @@
 import random
 import unittest
 
-from drawn import CALM, arcs_by_told, drawn_held, drawn_nets, drawn_rows, long_rows
+from drawn import CALM, arcs_by_told, circle_parts, drawn_circle, drawn_held, drawn_line, drawn_nets, drawn_rows, long_rows
 from holdlane.errors import LaneError, NotCalm
 from holdlane.nets import Net
 from holdlane.nettext import read_net
@@ -25,33 +25,6 @@ def has_ring(told):
             if middle in reached[name]:
                 reached[name] |= reached[middle]
     return any(name in reached[name] for name in names)
-
-
-def shuffled_net(source, lanes, parts):
-    source.shuffle(lanes)
-    source.shuffle(parts)
-    return Net(lanes, parts)
-
-
-def drawn_circle(source):
-    """Stages in a circle whose lanes are all empty or all full, but for one of them perhaps."""
-    many, full = source.randrange(1, 17), source.randrange(2)
-    other = source.randrange(2 * many)
-    lanes = []
-    for place in range(many):
-        room = source.randrange(1, 4)
-        count = source.randrange(room + 1) if place == other else room * full
-        lanes.append((f"l{place}", room, [1] * count))
-    parts = [("pass", f"p{place}", [], [f"l{place}"], [f"l{(place + 1) % many}"]) for place in range(many)]
-    return shuffled_net(source, lanes, parts)
-
-
-def drawn_line(source, many=16):
-    """A row of parts, each lane full or empty: the ranks may have to go up to the last."""
-    lanes = [(f"l{place}", 1, [1] * source.randrange(2)) for place in range(many - 1)]
-    parts = [("pass", f"p{place}", [], [f"l{place - 1}"], [f"l{place}"]) for place in range(1, many - 1)]
-    parts += [("give", "p0", [], [], ["l0"]), ("take", f"p{many - 1}", [], [f"l{many - 2}"], [])]
-    return shuffled_net(source, lanes, parts)
 
 
 class Checks(unittest.TestCase):
@@ -118,7 +91,7 @@ class RanksOrRing(Checks):
 
     def test_empty_rings_and_full_rings(self):
         for many in range(1, 17):
-            parts = [("pass", f"p{place}", [], [f"l{place}"], [f"l{(place + 1) % many}"]) for place in range(many)]
+            parts = circle_parts(many)
             for first, way in (([], "along"), ([1, 1], "against")):
                 lanes = [(f"l{place}", 2, first) for place in range(many)]
                 kind, ring = self.right(Net(lanes, parts))
